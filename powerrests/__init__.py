@@ -1,0 +1,1 @@
+"""Powerrests: sums of powers by one row of numbers, and what lies around that row."""
