@@ -3,6 +3,9 @@
 from powerrests.errors import NoShare
 from powerrests.plain import is_whole
 
+NOUGHT = (0, 1)
+ONE = (1, 1)
+
 
 def is_share(thing):
     """Whether the plain thing is a SHARE."""
@@ -12,6 +15,16 @@ def is_share(thing):
     if not is_whole(top) or not is_whole(bottom) or bottom < 1:
         return False
     return common_of(top, bottom) == 1
+
+
+def are_shares(thing):
+    """Whether the plain thing is a tuple of SHAREs."""
+    if not isinstance(thing, tuple):
+        return False
+    for part in thing:
+        if not is_share(part):
+            return False
+    return True
 
 
 def common_of(top, bottom):

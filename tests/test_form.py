@@ -176,7 +176,8 @@ class Form(unittest.TestCase):
             self.assertEqual(sorted(set(bound_names(tree)) & taken), [], name)
 
     def test_builtins_and_methods(self):
-        own = {node.name for tree in self.trees.values() for node in ast.walk(tree) if isinstance(node, ast.FunctionDef)}
+        own = {node.name for tree in self.trees.values() for node in ast.walk(tree)
+               if isinstance(node, ast.FunctionDef)}
         for name, tree in self.trees.items():
             for node in ast.walk(tree):
                 if isinstance(node, ast.Name) and node.id in dir(builtins):

@@ -45,7 +45,7 @@ class IsPrime(Case):
             self.tells(False, is_prime, k)
 
     def test_other_things(self):
-        for thing in ODD_THINGS + ("2", "7", (2,), (7, 1), [2], [7], {2: 3}, {7: 7}, deep(39), (2, 3, 5), [None] * 4999):
+        for thing in ODD_THINGS + ("2", "7", (2,), (7, 1), (2, 3, 5), [2], [7], {2: 3}, {7: 7}, deep(39)):
             self.tells(False, is_prime, thing)
 
 

@@ -1,0 +1,38 @@
+"""The interface: each name stands in its module, with its arguments."""
+
+import importlib
+import inspect
+import unittest
+
+NAMES = {
+    "errors": "NoShare(word) NoRest(number,prime) NoRow(word,place) NoPaper(word,place) NoTurn(word,thing) "
+              "NoText(word,place) NoLine(row)",
+    "shares": "is_share(thing) lowest(top,bottom) plus(one,other) minus(one,other) times(one,other) "
+              "over(one,other) power_of(one,n) is_less(one,other) floor_of(one) whole_of(one)",
+    "choices": "choose(n,k) choices_of(n)",
+    "primes": "is_prime(thing) primes_to(n) parts_of(n)",
+    "restsof": "rest_of(number,p) rest_of_power(a,n,p) inverse_of(a,p)",
+    "polys": "is_poly(thing) power_poly(n) value_at(poly,share) poly_plus(one,other) poly_times(one,other) "
+             "poly_scaled(poly,share) poly_moved(poly,share) poly_mirrored(poly,share) poly_stretched(poly,share) "
+             "poly_step(poly) poly_back(poly) poly_pair(poly) mean_of(poly)",
+    "differences": "columns_of(values) next_value(values) poly_through(values) poly_of_backs(numbers) backs_of(poly)",
+    "row": "step_of(shares) row_to(n) number_at(n)",
+    "rowjudge": "lets_row(thing)",
+    "sums": "summed(poly) sum_below(poly,many) power_sum(n,many) even_sum(n,many) odd_sum(n,many) "
+            "spaced_sum(n,first,step,many)",
+}
+
+
+class Interface(unittest.TestCase):
+    def test_names_and_arguments(self):
+        for module, listed in NAMES.items():
+            for each in listed.split():
+                name, _, rest = each.partition("(")
+                with self.subTest(f"{module}.{name}"):
+                    found = getattr(importlib.import_module(f"powerrests.{module}"), name)
+                    arguments = list(inspect.signature(found).parameters)
+                    self.assertEqual(arguments, rest.rstrip(")").split(","))
+
+
+if __name__ == "__main__":
+    unittest.main()
