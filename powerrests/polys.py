@@ -10,6 +10,24 @@ def is_poly(thing):
     return are_shares(thing) and (thing == () or thing[-1] != NOUGHT)
 
 
+def is_poly_within(thing, most):
+    """Whether the plain thing is a POLY of at most so many SHAREs."""
+    return isinstance(thing, tuple) and len(thing) <= most and is_poly(thing)
+
+
+def number_within(poly, k):
+    """The POLY's number at x ** k, nought beyond its end."""
+    return poly[k] if k < len(poly) else NOUGHT
+
+
+def first_unlike(one, other):
+    """The least k such that two POLYs have unlike numbers at x ** k, or None."""
+    for k in range(max(len(one), len(other))):
+        if number_within(one, k) != number_within(other, k):
+            return k
+    return None
+
+
 def trimmed(shares):
     """The POLY of these SHAREs: noughts at the end don't count."""
     end = len(shares)

@@ -4,8 +4,12 @@ import copy
 import random
 import unittest
 from fractions import Fraction
+from math import comb
+
+from powerrests.polys import poly_times
 
 THIRTY = 10 ** 30 - 1
+GREAT = 10 ** 30
 
 # Plain things that are no whole number, no SHARE, no POLY and no row.
 ODD_THINGS = (
@@ -13,6 +17,27 @@ ODD_THINGS = (
     (None,), (True,), ("",), ([],), ({},), ((),), (((),),), (None, None), ("1", "2"),
     ([1], [2]), ({}, {}), ((1, 2), 1), (1, (1, 2)), (((1, 2), (1, 3)), 1),
 )
+
+# Plain things that are no SHARE, some of them nearly one.
+NO_SHARES = (
+    None, True, 0, 1, "", "1/2", [1, 1], {}, (), (1,), (1, 1, 1), (0, 2), (2, 2), (-2, 4), (1, 0), (1, -2), (-1, -1),
+    (True, 1), (1, True), (True, True), (False, 1), ((1, 1), 1), ((1, 1), (1, 1)), ("1", "1"),
+)
+
+# The row's numbers at the even places, written out.
+EVEN = (
+    (1, 1), (1, 6), (-1, 30), (1, 42), (-1, 30), (5, 66), (-691, 2730), (7, 6), (-3617, 510), (43867, 798),
+    (-174611, 330), (854513, 138), (-236364091, 2730), (8553103, 6), (-23749461029, 870), (8615841276005, 14322),
+    (-7709321041217, 510), (2577687858367, 6), (-26315271553053477373, 1919190), (2929993913841559, 6),
+    (-261082718496449122051, 13530),
+)
+
+
+def due_at(n):
+    """The row's number at place n, from 0 to 40, made without the program."""
+    if n == 1:
+        return (-1, 2)
+    return (0, 1) if n % 2 == 1 else EVEN[n // 2]
 
 
 def alike(one, other):
@@ -44,6 +69,36 @@ def poly(*numbers):
 def value(one, x):
     """The value of a POLY at a number, by plain powers."""
     return sum((number_of(pair) * Fraction(x) ** k for k, pair in enumerate(one)), Fraction(0))
+
+
+def from_above(numbers, k):
+    """What the numbers behind place k bring to x ** k where x + 1 stands for x."""
+    return sum((comb(j, k) * numbers[j] for j in range(k + 1, len(numbers))), Fraction(0))
+
+
+def summed_by_hand(one):
+    """The POLY of value nought at 0 whose step is this one, made without the program."""
+    numbers = [Fraction(0)] * (len(one) + 1)
+    for k in range(len(one) - 1, -1, -1):
+        numbers[k + 1] = (number_of(one[k]) - from_above(numbers, k)) / (k + 1)
+    return poly(*numbers) if one else ()
+
+
+def signed_by_hand(one):
+    """The POLY whose pair is this one, made without the program."""
+    numbers = [Fraction(0)] * len(one)
+    for k in range(len(one) - 1, -1, -1):
+        numbers[k] = (number_of(one[k]) - from_above(numbers, k)) / 2
+    return poly(*numbers)
+
+
+def with_more(one, k, more):
+    """The POLY with more at x ** k."""
+    numbers = [number_of(pair) for pair in one] + [Fraction(0)] * (k + 1 - len(one))
+    numbers[k] += more
+    while numbers and numbers[-1] == 0:
+        numbers.pop()
+    return poly(*numbers)
 
 
 def deep(many):
@@ -127,3 +182,24 @@ class Odd:
         while pairs and pairs[-1] == (0, 1):
             pairs[-1] = self.pair(figures)
         return tuple(pairs)
+
+
+def some_polys():
+    """(), constants, all powers, POLYs of thirteen SHAREs of twelve figures, one of twenty-one."""
+    odd = Odd(41)
+    few = [(), poly(1), poly(-3), poly(Fraction(1, 2)), poly(0, 0, 7), poly(1, -1, 0, Fraction(2, 5))]
+    powers = [poly(*[0] * n, 1) for n in range(21)]
+    return few + powers + [odd.poly(many, 12) for many in (1, 2, 7, 13, 13)] + [
+        poly_times(odd.poly(11, 12), odd.poly(11, 12))]
+
+
+def no_polys(right, most):
+    """Plain things that are no POLY of at most so many SHAREs, some of them nearly the right one."""
+    things = list(ODD_THINGS) + [0, 1, -1, THIRTY, 10 ** 3999, deep(39), ((0, 1),), ((0, 1), (0, 1))]
+    things += [list(right), [list(pair) for pair in right], {0: right}, (right,), right + ((0, 1),), str(right)]
+    for wrong in NO_SHARES:
+        things += [right[:at] + (wrong,) + right[at + 1:] for at in range(len(right))]
+        things.append(right + (wrong,))
+    for many in (most + 1, most + 2, 2 * most, 2000):
+        things += [((0, 1),) * (many - 1) + ((1, 1),), ((1, 2),) * many]
+    return things

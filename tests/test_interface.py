@@ -20,6 +20,11 @@ NAMES = {
     "rowjudge": "lets_row(thing)",
     "sums": "summed(poly) sum_below(poly,many) power_sum(n,many) even_sum(n,many) odd_sum(n,many) "
             "spaced_sum(n,first,step,many)",
+    "sumjudge": "lets_summed(poly,thing)",
+    "rowpolys": "row_poly(n) spread(poly,m)",
+    "polyjudge": "lets_row_poly(n,thing)",
+    "signs": "signed(poly) turn_poly(n) signed_below(poly,many)",
+    "signjudge": "lets_signed(poly,thing)",
 }
 
 

@@ -5,21 +5,7 @@ from fractions import Fraction
 from math import comb
 
 from powerrests.row import number_at, row_to, step_of
-from tests.helping import THIRTY, Case, Odd, number_of, share
-
-# The row's numbers at the even places, written out.
-EVEN = (
-    (1, 1), (1, 6), (-1, 30), (1, 42), (-1, 30), (5, 66), (-691, 2730), (7, 6), (-3617, 510), (43867, 798),
-    (-174611, 330), (854513, 138), (-236364091, 2730), (8553103, 6), (-23749461029, 870), (8615841276005, 14322),
-    (-7709321041217, 510), (2577687858367, 6), (-26315271553053477373, 1919190), (2929993913841559, 6),
-    (-261082718496449122051, 13530),
-)
-
-
-def due_at(n):
-    if n == 1:
-        return (-1, 2)
-    return (0, 1) if n % 2 == 1 else EVEN[n // 2]
+from tests.helping import THIRTY, Case, Odd, due_at, number_of, share
 
 
 class Step(Case):

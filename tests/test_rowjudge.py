@@ -5,12 +5,8 @@ import unittest
 from powerrests.errors import NoRow
 from powerrests.row import row_to, step_of
 from powerrests.rowjudge import lets_row
-from tests.helping import ODD_THINGS, THIRTY, Case, deep
+from tests.helping import NO_SHARES, ODD_THINGS, THIRTY, Case, deep
 
-NO_SHARES = (
-    None, True, 0, 1, "", "1/2", [1, 1], {}, (), (1,), (1, 1, 1), (0, 2), (2, 2), (-2, 4), (1, 0), (1, -2), (-1, -1),
-    (True, 1), (1, True), (True, True), (False, 1), ((1, 1), 1), ((1, 1), (1, 1)), ("1", "1"),
-)
 WRONG = ((2, 1), (-1, 1), (1, 2), (THIRTY, THIRTY - 1), (0, 1), (10 ** 3999, 7))
 
 

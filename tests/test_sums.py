@@ -3,21 +3,11 @@
 import unittest
 from fractions import Fraction
 
-from powerrests.polys import poly_step, poly_times, power_poly, value_at
+from powerrests.polys import poly_step, value_at
 from powerrests.sums import even_sum, odd_sum, power_sum, spaced_sum, sum_below, summed
-from tests.helping import Case, Odd, number_of, poly, share, value
+from tests.helping import GREAT, Case, number_of, poly, share, some_polys, value
 
-GREAT = 10 ** 30
 TWELVE = 10 ** 12 - 1
-
-
-def some_polys():
-    """(), constants, all powers, POLYs of thirteen SHAREs of twelve figures, one of twenty-one."""
-    odd = Odd(41)
-    few = [(), poly(1), poly(-3), poly(Fraction(1, 2)), poly(0, 0, 7), poly(1, -1, 0, Fraction(2, 5))]
-    powers = [power_poly(n) for n in range(21)]
-    return few + powers + [odd.poly(many, 12) for many in (1, 2, 7, 13, 13)] + [
-        poly_times(odd.poly(11, 12), odd.poly(11, 12))]
 
 
 def added(one, many):
