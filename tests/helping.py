@@ -10,6 +10,7 @@ from powerrests.polys import poly_times
 
 THIRTY = 10 ** 30 - 1
 GREAT = 10 ** 30
+PRIMES = [p for p in range(2, 200) if all(p % k for k in range(2, p))]
 
 # Plain things that are no whole number, no SHARE, no POLY and no row.
 ODD_THINGS = (
@@ -38,6 +39,25 @@ def due_at(n):
     if n == 1:
         return (-1, 2)
     return (0, 1) if n % 2 == 1 else EVEN[n // 2]
+
+
+def row_by_hand(last):
+    """The row's numbers to a place, as Fractions, made without the program."""
+    numbers = []
+    for n in range(last + 1):
+        total = sum((comb(n + 1, k) * number for k, number in enumerate(numbers) if number), Fraction(0))
+        numbers.append(-total / (n + 1) if n else Fraction(1))
+    return numbers
+
+
+LONG_ROW = row_by_hand(198)
+
+
+def far_due(n, p):
+    """The far rest of n by p, where p - 1 doesn't divide n, by the row's number at the least place alike."""
+    least = n % (p - 1)
+    number = LONG_ROW[least] / least
+    return number.numerator * pow(number.denominator, -1, p) % p
 
 
 def alike(one, other):

@@ -25,6 +25,11 @@ NAMES = {
     "polyjudge": "lets_row_poly(n,thing)",
     "signs": "signed(poly) turn_poly(n) signed_below(poly,many)",
     "signjudge": "lets_signed(poly,thing)",
+    "parts": "like_powers(parts,m) products_of(parts) products_by_powers(powers) powers_by_products(products,m)",
+    "beneath": "primes_beneath(n) whole_at(n) beneath_paper(n)",
+    "beneathjudge": "lets_beneath(n,share,thing)",
+    "rests": "share_rest(share,p) row_rest(n,p) far_rest(n,p) rest_paper(n,p)",
+    "restjudge": "cut_sum(n,p,a) lets_rest(n,p,rest,thing)",
 }
 
 

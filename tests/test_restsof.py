@@ -4,9 +4,7 @@ import unittest
 
 from powerrests.errors import NoRest
 from powerrests.restsof import inverse_of, rest_of, rest_of_power
-from tests.helping import THIRTY, Case, Odd
-
-PRIMES = [p for p in range(2, 200) if all(p % k for k in range(2, p))]
+from tests.helping import PRIMES, THIRTY, Case, Odd
 
 
 def some_numbers(p):
