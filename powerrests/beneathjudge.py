@@ -2,7 +2,7 @@
 
 from powerrests.beneath import primes_beneath, with_parts
 from powerrests.errors import NoPaper
-from powerrests.plain import is_whole
+from powerrests.plain import are_whole, is_whole
 
 
 def lets_beneath(n, share, thing):
@@ -27,4 +27,4 @@ def has_shape(thing):
     if not isinstance(thing, tuple) or len(thing) != 2:
         return False
     whole, primes = thing
-    return is_whole(whole) and isinstance(primes, tuple) and all([is_whole(p) for p in primes])
+    return is_whole(whole) and are_whole(primes)

@@ -53,6 +53,27 @@ def row_by_hand(last):
 LONG_ROW = row_by_hand(198)
 
 
+def turns_by_hand(last):
+    """How many TURNs of 0, 1, .., last go down, made without the program."""
+    # The greatest of n + 1 numbers parts a TURN in two; of up first and down first there are as many.
+    many = [1, 1]
+    while len(many) <= last:
+        n = len(many) - 1
+        many.append(sum(comb(n, k) * many[k] * many[n - k] for k in range(n + 1)) // 2)
+    return many
+
+
+TURNS = turns_by_hand(40)
+
+
+def is_wave(numbers):
+    """Whether the numbers from 0 on, each once, go up and down, told without the program."""
+    if sorted(numbers) != list(range(len(numbers))):
+        return False
+    rises = [one < other for one, other in zip(numbers, numbers[1:])]
+    return all(one != other for one, other in zip(rises, rises[1:]))
+
+
 def far_due(n, p):
     """The far rest of n by p, where p - 1 doesn't divide n, by the row's number at the least place alike."""
     least = n % (p - 1)
@@ -192,6 +213,16 @@ class Odd:
 
     def pair(self, figures):
         return share(Fraction(self.whole(figures), self.source.randint(1, 10 ** figures - 1)))
+
+    def wave(self, n, down):
+        """A TURN of n, of two numbers or more, that goes down, or up, first."""
+        numbers = list(range(n))
+        self.source.shuffle(numbers)
+        for k in range(n - 1):
+            # Exchanging two that go the wrong way leaves the pair ahead of them right.
+            if (numbers[k] > numbers[k + 1]) != (down == (k % 2 == 0)):
+                numbers[k], numbers[k + 1] = numbers[k + 1], numbers[k]
+        return tuple(numbers)
 
     def pairs(self, many, figures):
         return tuple(self.pair(figures) for _ in range(many))

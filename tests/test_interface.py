@@ -30,6 +30,11 @@ NAMES = {
     "beneathjudge": "lets_beneath(n,share,thing)",
     "rests": "share_rest(share,p) row_rest(n,p) far_rest(n,p) rest_paper(n,p)",
     "restjudge": "cut_sum(n,p,a) lets_rest(n,p,rest,thing)",
+    "turns": "is_turn(thing) goes_down(thing) turns_down(n)",
+    "tables": "row_by_steps(row) row_by_sums(row) table_to(n) turns_of(n)",
+    "tablejudge": "lets_table(thing)",
+    "places": "turn_at(n,place) place_of(thing)",
+    "ties": "turns_by_row(n) number_by_turns(n) turns_by_poly(n)",
 }
 
 
