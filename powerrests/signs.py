@@ -24,7 +24,11 @@ def moved_from_above(numbers, k):
 
 def signed_below(poly, many):
     """Q(0) - Q(1) + Q(2) - .., many in all."""
-    paper = signed(poly)
+    return signed_told(signed(poly), many)
+
+
+def signed_told(paper, many):
+    """P(0) - ((-1) ** many) P(many): the signed sum below many that the signed POLY P tells."""
     first, last = value_at(paper, NOUGHT), value_at(paper, (many, 1))
     return minus(first, last) if many % 2 == 0 else plus(first, last)
 

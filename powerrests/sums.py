@@ -25,7 +25,12 @@ def summed_power(n, numbers):
 
 def sum_below(poly, many):
     """The sum of the POLY's values at 0, 1, .., many - 1."""
-    return value_at(summed(poly), (many, 1))
+    return sum_told(summed(poly), many)
+
+
+def sum_told(paper, many):
+    """P(many): the sum below many that the summed POLY P tells."""
+    return value_at(paper, (many, 1))
 
 
 def power_sum(n, many):

@@ -10,7 +10,8 @@ from powerrests.polys import poly_times
 
 THIRTY = 10 ** 30 - 1
 GREAT = 10 ** 30
-PRIMES = [p for p in range(2, 200) if all(p % k for k in range(2, p))]
+ALL_PRIMES = [p for p in range(2, 1002) if all(p % k for k in range(2, int(p ** 0.5) + 1))]
+PRIMES = [p for p in ALL_PRIMES if p < 200]
 
 # Plain things that are no whole number, no SHARE, no POLY and no row.
 ODD_THINGS = (
@@ -140,6 +141,98 @@ def with_more(one, k, more):
     while numbers and numbers[-1] == 0:
         numbers.pop()
     return poly(*numbers)
+
+
+def due_beneath(n):
+    """The primes of a place, made without the program."""
+    if n == 1:
+        return (2,)
+    return tuple(p for p in ALL_PRIMES if n % (p - 1) == 0) if n > 1 and n % 2 == 0 else ()
+
+
+def due_whole(n):
+    """The whole of a place of the row, as a Fraction, made without the program."""
+    return number_of(due_at(n)) + sum((Fraction(1, p) for p in due_beneath(n)), Fraction(0))
+
+
+def table_by_hand(n):
+    """The table to n, made without the program."""
+    rows = [(1,)]
+    while len(rows) <= n:
+        rows.append(tuple(sum(rows[-1][::-1][:k]) for k in range(len(rows) + 1)))
+    return tuple(rows)
+
+
+def answer_due(claim):
+    """The right answer of a CLAIM, made without the program."""
+    word, first, second = claim[:3]
+    if word == "number":
+        return due_at(first)
+    if word == "sum":
+        return share(value(summed_by_hand(first), second))
+    if word == "signed":
+        paper = signed_by_hand(first)
+        return share(value(paper, 0) - (-1) ** (second % 2) * value(paper, second))
+    if word == "beneath":
+        return due_beneath(first)
+    return far_due(first, second) if word == "rest" else TURNS[first]
+
+
+def paper_due(claim):
+    """A paper of a CLAIM that is so, made without the program."""
+    word, first = claim[:2]
+    if word == "sum":
+        return summed_by_hand(first)
+    if word == "signed":
+        return signed_by_hand(first)
+    if word == "rest":
+        return min(a for a in range(2, claim[2]) if pow(a, first, claim[2]) != 1)
+    if word == "turns":
+        return table_by_hand(first)
+    row = tuple(due_at(k) for k in range(first + 1))
+    return row if word == "number" else (row, int(due_whole(first)))
+
+
+def right(*claim):
+    """The CLAIM with its right answer, from all but that."""
+    return claim + (answer_due(claim + (None,)),)
+
+
+def right_claims():
+    """CLAIMs that are so, of every word, at the edges and between."""
+    odd = Odd(77)
+    claims = [right(word, n) for word in ("number", "beneath", "turns") for n in range(41)]
+    polys = [(), poly(1), poly(0, 1), poly(Fraction(-1, 2), 3, 0, 5), odd.poly(12, 12), odd.poly(13, 12)]
+    for word in ("sum", "signed"):
+        for one in polys:
+            claims += [right(word, one, many) for many in (0, 1, 2, 7, 10 ** 30 - 1, 10 ** 30)]
+    for n, p in ((2, 5), (4, 7), (32, 37), (44, 59), (10, 199), (196, 199), (10 ** 30 - 2, 5), (10 ** 30 - 4, 197),
+                 (2 * 10 ** 28, 7), (10 ** 29 + 6, 101), (2 * 199, 199), (10, 5)):
+        claims.append(right("rest", n, p))
+    return claims
+
+
+def wrong_answers(claim):
+    """Other answers that make it a CLAIM still."""
+    word, answer = claim[0], claim[-1]
+    if word == "rest":
+        return [rest for rest in range(claim[2]) if rest != answer][:40]
+    if word == "turns":
+        return [answer + 1, answer - 1, -answer, 0, 10 ** 59, -10 ** 59]
+    if word == "beneath":
+        others = [answer + (2,), answer[:-1], answer[1:], answer[::-1], answer + answer, (), (2, 3), (-2,), (THIRTY,)]
+        return [other for other in others if other != answer]
+    less, more = share(number_of(answer) - 1), share(number_of(answer) + Fraction(1, 7))
+    others = [less, more, (-answer[0], answer[1]), (0, 1), (1, 1), (10 ** 600 - 1, 10 ** 600 - 2), (7, 10 ** 600 - 9)]
+    return [other for other in others if other != answer]
+
+
+def with_lists(thing):
+    """The things that come of putting a list in the place of one tuple at any depth."""
+    if not isinstance(thing, tuple):
+        return []
+    inner = [thing[:k] + (other,) + thing[k + 1:] for k, part in enumerate(thing) for other in with_lists(part)]
+    return [list(thing)] + inner
 
 
 def deep(many):

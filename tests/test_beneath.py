@@ -1,23 +1,10 @@
 """[4], [26], [27]: what stands beneath the row's numbers."""
 
 import unittest
-from fractions import Fraction
 from math import prod
 
 from powerrests.beneath import beneath_paper, primes_beneath, whole_at
-from tests.helping import Case, due_at, number_of
-
-ALL_PRIMES = [p for p in range(2, 1002) if all(p % k for k in range(2, int(p ** 0.5) + 1))]
-
-
-def due_beneath(n):
-    if n == 1:
-        return (2,)
-    return tuple(p for p in ALL_PRIMES if n % (p - 1) == 0) if n > 1 and n % 2 == 0 else ()
-
-
-def due_whole(n):
-    return number_of(due_at(n)) + sum((Fraction(1, p) for p in due_beneath(n)), Fraction(0))
+from tests.helping import Case, due_at, due_beneath, due_whole
 
 
 class PrimesBeneath(Case):

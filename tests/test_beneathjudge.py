@@ -49,7 +49,8 @@ class LetsBeneath(Case):
     def test_no_tuple_of_two(self):
         # One of the odd things has the shape of a paper.
         things = [thing for thing in ODD_THINGS if thing != (1, (1, 2))]
-        things += [0, 1, THIRTY, 10 ** 3999, (), (1,), (1, (2, 3), 1), [1, (2, 3)], {1: (2, 3)}, ((1, (2, 3)),), deep(39)]
+        things += [0, 1, THIRTY, 10 ** 3999, (), (1,), (1, (2, 3), 1), [1, (2, 3)], {1: (2, 3)}, ((1, (2, 3)),)]
+        things.append(deep(39))
         for thing in things + ["1 2 3", (1, 2, 3), ((2, 3), 1), (1, 2)]:
             for n, pair in ((0, (1, 1)), (2, (1, 6)), (3, (0, 1))):
                 self.refused("shape", 0, n, pair, thing)

@@ -21,7 +21,7 @@ ALLOWED_METHODS = set(
     "append clear copy count endswith extend find get index insert isalnum isalpha isdigit islower isspace "
     "isupper items join keys ljust lower lstrip partition pop remove replace reverse rfind rjust rpartition "
     "rsplit rstrip setdefault split splitlines startswith strip update upper values zfill bit_length add "
-    "discard isascii isdecimal __init__".split()
+    "discard isascii isdecimal removeprefix __init__".split()
 )
 BARRED_WORDS = re.compile(
     r"\b(type|typing|typing_extensions|enum|Enum|IntEnum|StrEnum|Flag|IntFlag|Generic|Protocol|ABC|ABCMeta|"

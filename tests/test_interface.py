@@ -4,6 +4,8 @@ import importlib
 import inspect
 import unittest
 
+from powerrests.desk import Desk
+
 NAMES = {
     "errors": "NoShare(word) NoRest(number,prime) NoRow(word,place) NoPaper(word,place) NoTurn(word,thing) "
               "NoText(word,place) NoLine(row)",
@@ -35,6 +37,11 @@ NAMES = {
     "tablejudge": "lets_table(thing)",
     "places": "turn_at(n,place) place_of(thing)",
     "ties": "turns_by_row(n) number_by_turns(n) turns_by_poly(n)",
+    "texts": "share_text(share) shares_text(shares) read_shares(thing) read_poly(thing)",
+    "claims": "is_claim(thing)",
+    "judge": "lets_claim(claim,thing)",
+    "judging": "judged(claim)",
+    "desk": "Desk()",
 }
 
 
@@ -46,7 +53,10 @@ class Interface(unittest.TestCase):
                 with self.subTest(f"{module}.{name}"):
                     found = getattr(importlib.import_module(f"powerrests.{module}"), name)
                     arguments = list(inspect.signature(found).parameters)
-                    self.assertEqual(arguments, rest.rstrip(")").split(","))
+                    self.assertEqual(arguments, [each for each in rest.rstrip(")").split(",") if each])
+
+    def test_a_desk_is_told_rows(self):
+        self.assertEqual(list(inspect.signature(Desk().say).parameters), ["row"])
 
 
 if __name__ == "__main__":
